@@ -1,0 +1,1 @@
+"""Hourring: an exchange of work hours between neighbours."""

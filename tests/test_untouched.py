@@ -1,0 +1,76 @@
+"""Point 1: what is handed in stays as it was, and answers hang on nothing but it."""
+
+import unittest
+from copy import deepcopy
+
+from hourring.nets import bound_by, is_circling, worth
+from hourring.towns import is_exchange, is_name, is_whole, moved, need_day, need_town, skills_of
+from tests.helper import outcome
+
+TOWN = [("ann", 0, -9, 9), ("bob", 2, -9, 9), ("cleo", -2, -9, 9)]
+DAY = ([("ann", "dig", 5), ("bob", "sew", 4)], [("bob", "dig", 3), ("cleo", "dig", 4)])
+JOBS = [("ann", "cleo", "dig", 2), ("ann", "bob", "dig", 3)]
+ARCS = [(0, 1, 5, 2), (1, 0, 5, -1)]
+BAD = [("ann", "dig", 0), ["ann"], None]
+
+CALLS = [
+    (is_name, ["ann"]), (is_name, [["ann"]]), (is_whole, [3, 0, 5]), (is_whole, [[3], 0, 5]),
+    (need_town, [TOWN]), (need_town, [TOWN + TOWN]), (need_town, [BAD]), (need_town, [{"ann": [1]}]),
+    (need_day, [TOWN, DAY]), (need_day, [TOWN, (BAD, [])]), (need_day, [TOWN, [[], []]]),
+    (skills_of, [DAY]), (moved, [JOBS]),
+    (is_exchange, [TOWN, DAY, JOBS]), (is_exchange, [TOWN, DAY, JOBS + JOBS]), (is_exchange, [TOWN, DAY, BAD]),
+    (is_exchange, [TOWN, DAY, [("bob", "cleo", "dig", 1)]]),
+    (is_circling, [2, ARCS, [3, 3]]), (is_circling, [2, ARCS, [3, 2]]), (is_circling, [2, ARCS, [6, 6]]),
+    (worth, [ARCS, [3, 3]]), (bound_by, [ARCS, [0, -4]]),
+]
+
+
+class Untouched(unittest.TestCase):
+    def test_what_is_handed_in_is_as_it_was(self):
+        for number, (call, given) in enumerate(CALLS):
+            with self.subTest(call=call.__name__, number=number):
+                handed = deepcopy(given)
+                outcome(call, *handed)
+                self.assertEqual(handed, given)
+
+    def test_the_answer_is_the_same_each_time(self):
+        for number, (call, given) in enumerate(CALLS):
+            with self.subTest(call=call.__name__, number=number):
+                handed = deepcopy(given)
+                told = [outcome(call, *handed) for _ in range(3)]
+                self.assertEqual(told, [outcome(call, *deepcopy(given))] * 3)
+
+    def test_a_town_changed_later_changes_no_later_answer(self):
+        town = deepcopy(TOWN)
+        need_town(town)
+        town.append(("ann", 0, 0, 0))
+        self.assertRaises(ValueError, need_town, town)
+        self.assertIs(need_town(deepcopy(TOWN)), None)
+        town.pop()
+        self.assertIs(need_town(town), None)
+
+    def test_a_day_changed_later_changes_no_later_answer(self):
+        day = deepcopy(DAY)
+        self.assertIs(need_day(TOWN, day), None)
+        told = skills_of(day)
+        self.assertIs(is_exchange(TOWN, day, JOBS), True)
+        day[0].clear()
+        self.assertEqual(told, ["dig", "sew"])
+        self.assertIs(is_exchange(TOWN, day, JOBS), False)
+        self.assertIs(is_exchange(TOWN, deepcopy(DAY), JOBS), True)
+        self.assertEqual(skills_of(deepcopy(DAY)), ["dig", "sew"])
+
+    def test_jobs_changed_later_change_no_later_answer(self):
+        jobs = deepcopy(JOBS)
+        self.assertEqual((moved(jobs), is_exchange(TOWN, DAY, jobs)), (5, True))
+        jobs.append(("ann", "bob", "dig", 1))
+        self.assertEqual((moved(jobs), is_exchange(TOWN, DAY, jobs)), (6, False))
+        self.assertEqual((moved(JOBS), is_exchange(TOWN, DAY, JOBS)), (5, True))
+
+    def test_a_net_changed_later_changes_no_later_answer(self):
+        arcs, flows = deepcopy(ARCS), [3, 3]
+        self.assertEqual((is_circling(2, arcs, flows), worth(arcs, flows), bound_by(arcs, [0, 0])), (True, 3, 10))
+        arcs[0] = (0, 1, 2, 7)
+        flows[1] = 2
+        self.assertEqual((is_circling(2, arcs, flows), worth(arcs, flows), bound_by(arcs, [0, 0])), (False, 19, 14))
+        self.assertEqual((is_circling(2, ARCS, [3, 3]), worth(ARCS, [3, 3]), bound_by(ARCS, [0, 0])), (True, 3, 10))
