@@ -3,7 +3,7 @@
 import inspect
 import unittest
 
-from hourring import nets, towns
+from hourring import circling, nets, pairing, papers, towns
 
 FUNCTIONS = {
     towns: {
@@ -13,6 +13,9 @@ FUNCTIONS = {
     nets: {
         "is_circling": ["many", "arcs", "flows"], "worth": ["arcs", "flows"], "bound_by": ["arcs", "prices"],
     },
+    circling: {"circulation": ["many", "arcs"]},
+    papers: {"bound": ["town", "day", "prices"], "holds": ["town", "day", "jobs", "prices"]},
+    pairing: {"paired": ["givers", "takers"]},
 }
 
 

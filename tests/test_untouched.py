@@ -3,14 +3,19 @@
 import unittest
 from copy import deepcopy
 
+from hourring.circling import circulation
 from hourring.nets import bound_by, is_circling, worth
+from hourring.pairing import paired
+from hourring.papers import bound, holds
 from hourring.towns import is_exchange, is_name, is_whole, moved, need_day, need_town, skills_of
 from tests.helper import outcome
 
 TOWN = [("ann", 0, -9, 9), ("bob", 2, -9, 9), ("cleo", -2, -9, 9)]
 DAY = ([("ann", "dig", 5), ("bob", "sew", 4)], [("bob", "dig", 3), ("cleo", "dig", 4)])
 JOBS = [("ann", "cleo", "dig", 2), ("ann", "bob", "dig", 3)]
+PRICES = {("name", "ann"): 0, ("name", "bob"): 0, ("name", "cleo"): 0, ("skill", "dig"): 0, ("skill", "sew"): 1}
 ARCS = [(0, 1, 5, 2), (1, 0, 5, -1)]
+GIVERS, TAKERS = [("ann", 5), ("bob", 2)], [("cleo", 3), ("dora", 4)]
 BAD = [("ann", "dig", 0), ["ann"], None]
 
 CALLS = [
@@ -22,7 +27,22 @@ CALLS = [
     (is_exchange, [TOWN, DAY, [("bob", "cleo", "dig", 1)]]),
     (is_circling, [2, ARCS, [3, 3]]), (is_circling, [2, ARCS, [3, 2]]), (is_circling, [2, ARCS, [6, 6]]),
     (worth, [ARCS, [3, 3]]), (bound_by, [ARCS, [0, -4]]),
+    (circulation, [2, ARCS]), (circulation, [3, ARCS + ARCS]), (circulation, [1, []]),
+    (bound, [TOWN, DAY, PRICES]), (bound, [[], ([], []), {}]), (paired, [GIVERS, TAKERS]), (paired, [[], []]),
+    (holds, [TOWN, DAY, JOBS, PRICES]), (holds, [TOWN, DAY, JOBS[:1], PRICES]), (holds, [TOWN, DAY, BAD, PRICES]),
+    (holds, [TOWN, DAY, JOBS, {}]), (holds, [TOWN, DAY, JOBS, {**PRICES, ("skill", "sew"): True}]),
+    (holds, [TOWN, DAY, JOBS, BAD]), (holds, [BAD, DAY, JOBS, PRICES]), (holds, [TOWN, BAD, JOBS, PRICES]),
 ]
+
+
+def spoil(told):
+    """Change all lists of what was told."""
+    if isinstance(told, tuple):
+        for part in told:
+            spoil(part)
+    if isinstance(told, list):
+        told.reverse()
+        told.append("spoilt")
 
 
 class Untouched(unittest.TestCase):
@@ -39,6 +59,15 @@ class Untouched(unittest.TestCase):
                 handed = deepcopy(given)
                 told = [outcome(call, *handed) for _ in range(3)]
                 self.assertEqual(told, [outcome(call, *deepcopy(given))] * 3)
+
+    def test_what_is_told_is_the_askers_own(self):
+        for number, (call, given) in enumerate(CALLS):
+            with self.subTest(call=call.__name__, number=number):
+                handed = deepcopy(given)
+                told = deepcopy(outcome(call, *handed))
+                spoil(outcome(call, *handed))
+                self.assertEqual(handed, given)
+                self.assertEqual(outcome(call, *handed), told)
 
     def test_a_town_changed_later_changes_no_later_answer(self):
         town = deepcopy(TOWN)
@@ -74,3 +103,35 @@ class Untouched(unittest.TestCase):
         flows[1] = 2
         self.assertEqual((is_circling(2, arcs, flows), worth(arcs, flows), bound_by(arcs, [0, 0])), (False, 19, 14))
         self.assertEqual((is_circling(2, ARCS, [3, 3]), worth(ARCS, [3, 3]), bound_by(ARCS, [0, 0])), (True, 3, 10))
+
+    def test_what_is_told_of_a_net_does_not_change_with_it(self):
+        arcs = deepcopy(ARCS)
+        told = circulation(2, arcs)
+        copied = deepcopy(told)
+        arcs[0] = (0, 1, 2, 7)
+        self.assertEqual(circulation(2, arcs)[0], [2, 2])
+        self.assertEqual(told, copied)
+        self.assertEqual(circulation(2, deepcopy(ARCS)), copied)
+        arcs.clear()
+        self.assertEqual(told, copied)
+
+    def test_prices_changed_later_change_no_later_answer(self):
+        town, day, jobs, prices = deepcopy([TOWN, DAY, JOBS, PRICES])
+        day[1][1] = ("cleo", "dig", 2)
+        prices[("skill", "dig")], prices[("skill", "sew")] = 1, 1
+        self.assertEqual((bound(town, day, prices), holds(town, day, jobs, prices)), (5, True))
+        prices[("skill", "dig")] = 2
+        self.assertEqual((bound(town, day, prices), holds(town, day, jobs, prices)), (10, False))
+        prices[("skill", "dig")] = 1
+        self.assertEqual((bound(town, day, prices), holds(town, day, jobs, prices)), (5, True))
+        jobs.pop()
+        self.assertEqual((bound(town, day, prices), holds(town, day, jobs, prices)), (5, False))
+
+    def test_givers_and_takers_changed_later_change_no_later_answer(self):
+        givers, takers = deepcopy([GIVERS, TAKERS])
+        told = paired(givers, takers)
+        copied = deepcopy(told)
+        givers[0], takers[0] = ("ann", 6), ("cleo", 4)
+        self.assertEqual(paired(givers, takers), [("ann", "cleo", 4), ("ann", "dora", 2), ("bob", "dora", 2)])
+        self.assertEqual(told, copied)
+        self.assertEqual(paired(deepcopy(GIVERS), deepcopy(TAKERS)), copied)
