@@ -4,14 +4,9 @@ import unittest
 
 from hourring.errors import BadDay, RingError
 from hourring.towns import need_day, skills_of
-from tests.helper import GREAT, OTHER_SIGNS, even_town, names, odd_things, outcome
+from tests.helper import GREAT, OTHER_SIGNS, even_town, names, odd_things, outcome, spread
 
 TOWN = [("ann", 0, -9, 9), ("bob", 0, -9, 9), ("cleo", 0, -9, 9)]
-
-
-def spread(many):
-    """So many rows of a town of twelve, in which no neighbour and skill stand together twice."""
-    return [(name, skill, 1) for skill in names(12, "s") for name in names(12)][:many]
 
 
 class Days(unittest.TestCase):

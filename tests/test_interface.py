@@ -1,9 +1,9 @@
-"""Each function of the interface is defined in the file under which it is listed, with the listed arguments."""
+"""Each function and class of the interface stands in the file under which it is listed, with the listed arguments."""
 
 import inspect
 import unittest
 
-from hourring import circling, nets, pairing, papers, towns
+from hourring import circling, desk, exchanges, ledger, nets, pairing, papers, towns
 
 FUNCTIONS = {
     towns: {
@@ -16,6 +16,13 @@ FUNCTIONS = {
     circling: {"circulation": ["many", "arcs"]},
     papers: {"bound": ["town", "day", "prices"], "holds": ["town", "day", "jobs", "prices"]},
     pairing: {"paired": ["givers", "takers"]},
+    exchanges: {"best": ["town", "day"]},
+    ledger: {"played": ["deeds"]},
+}
+
+CLASSES = {
+    ledger: {"Ledger": {"do": ["deed"], "undo": [], "book": [], "town": [], "day": []}},
+    desk: {"Desk": {"say": ["line"]}},
 }
 
 
@@ -28,3 +35,15 @@ class Interface(unittest.TestCase):
                     self.assertTrue(inspect.isfunction(told))
                     self.assertEqual(told.__module__, module.__name__)
                     self.assertEqual(list(inspect.signature(told).parameters), arguments)
+
+    def test_classes_and_their_methods(self):
+        for module, table in CLASSES.items():
+            for name, methods in table.items():
+                kind = getattr(module, name)
+                self.assertTrue(inspect.isclass(kind))
+                self.assertEqual(kind.__module__, module.__name__)
+                self.assertEqual(list(inspect.signature(kind).parameters), [])
+                for method, arguments in methods.items():
+                    with self.subTest(name=name, method=method):
+                        self.assertTrue(inspect.isfunction(vars(kind)[method]))
+                        self.assertEqual(list(inspect.signature(vars(kind)[method]).parameters), ["self"] + arguments)

@@ -5,8 +5,8 @@ import unittest
 from itertools import product
 
 from hourring.papers import bound, holds
-from hourring.towns import is_exchange, moved, need_day, need_town, skills_of
-from tests.helper import GREAT, even_town, names, odd_things, outcome
+from hourring.towns import is_exchange, moved, need_day, need_town
+from tests.helper import GREAT, even_town, exchanges, keys_of, names, odd_things, outcome
 
 # A plain day with room in the purses.
 TOWN = [("ann", 0, -9, 9), ("bob", 2, -9, 9), ("cleo", -2, -9, 9)]
@@ -46,22 +46,6 @@ BEST = [(TOWN, DAY, JOBS, PRICES, 7), (STILL, ROUND, RING, RING_PRICES, 21),
 def shifted(prices, key, much):
     """The same prices but for one."""
     return {other: price + much * (other == key) for other, price in prices.items()}
-
-
-def exchanges(town, day):
-    """All exchanges of a day of few hours."""
-    offers, wishes = day
-    places = [(one, two, skill, min(much, many)) for one, skill, much in offers for two, same, many in wishes
-              if skill == same]
-    for hours in product(*[range(most + 1) for _, _, _, most in places]):
-        jobs = [place[:3] + (much,) for place, much in zip(places, hours) if much]
-        if is_exchange(town, day, jobs):
-            yield jobs
-
-
-def keys_of(town, day):
-    """The keys that prices of a day have."""
-    return [("name", row[0]) for row in town] + [("skill", skill) for skill in skills_of(day)]
 
 
 def drawn_day(draw):

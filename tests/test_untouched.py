@@ -4,11 +4,12 @@ import unittest
 from copy import deepcopy
 
 from hourring.circling import circulation
+from hourring.exchanges import best
 from hourring.nets import bound_by, is_circling, worth
 from hourring.pairing import paired
 from hourring.papers import bound, holds
 from hourring.towns import is_exchange, is_name, is_whole, moved, need_day, need_town, skills_of
-from tests.helper import outcome
+from tests.helper import outcome, spoil
 
 TOWN = [("ann", 0, -9, 9), ("bob", 2, -9, 9), ("cleo", -2, -9, 9)]
 DAY = ([("ann", "dig", 5), ("bob", "sew", 4)], [("bob", "dig", 3), ("cleo", "dig", 4)])
@@ -30,19 +31,10 @@ CALLS = [
     (circulation, [2, ARCS]), (circulation, [3, ARCS + ARCS]), (circulation, [1, []]),
     (bound, [TOWN, DAY, PRICES]), (bound, [[], ([], []), {}]), (paired, [GIVERS, TAKERS]), (paired, [[], []]),
     (holds, [TOWN, DAY, JOBS, PRICES]), (holds, [TOWN, DAY, JOBS[:1], PRICES]), (holds, [TOWN, DAY, BAD, PRICES]),
+    (best, [TOWN, DAY]), (best, [TOWN[::-1], DAY]), (best, [TOWN, ([], [])]), (best, [[], ([], [])]),
     (holds, [TOWN, DAY, JOBS, {}]), (holds, [TOWN, DAY, JOBS, {**PRICES, ("skill", "sew"): True}]),
     (holds, [TOWN, DAY, JOBS, BAD]), (holds, [BAD, DAY, JOBS, PRICES]), (holds, [TOWN, BAD, JOBS, PRICES]),
 ]
-
-
-def spoil(told):
-    """Change all lists of what was told."""
-    if isinstance(told, tuple):
-        for part in told:
-            spoil(part)
-    if isinstance(told, list):
-        told.reverse()
-        told.append("spoilt")
 
 
 class Untouched(unittest.TestCase):
@@ -135,3 +127,17 @@ class Untouched(unittest.TestCase):
         self.assertEqual(paired(givers, takers), [("ann", "cleo", 4), ("ann", "dora", 2), ("bob", "dora", 2)])
         self.assertEqual(told, copied)
         self.assertEqual(paired(deepcopy(GIVERS), deepcopy(TAKERS)), copied)
+
+    def test_a_town_and_a_day_changed_later_change_no_later_answer(self):
+        town, day = deepcopy([TOWN, DAY])
+        told = best(town, day)
+        copied = deepcopy(told)
+        day[0][0], town[1] = ("ann", "dig", 2), ("bob", 2, 1, 9)
+        self.assertEqual(moved(best(town, day)[0]), 2)
+        self.assertEqual(told, copied)
+        town.clear()
+        day[0].clear()
+        day[1].clear()
+        self.assertEqual(told, copied)
+        self.assertEqual(best(town, day), ([], {}))
+        self.assertEqual(best(deepcopy(TOWN), deepcopy(DAY)), copied)
